@@ -1,0 +1,1 @@
+"""Latehall: libraries brought late, and what their words mean."""

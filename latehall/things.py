@@ -19,3 +19,17 @@ def is_whole(thing):
 def are_unlike(names):
     """Whether no two of these names, or tuples of names, are alike."""
     return len(set(names)) == len(names)
+
+
+def are_same(thing, told):
+    """Whether any thing is just what was told: None, a whole number, a text or
+    a tuple of such; Python takes 1 and True for alike, the document doesn't."""
+    if told is None:
+        return thing is None
+    if isinstance(told, tuple):
+        if not isinstance(thing, tuple) or len(thing) != len(told):
+            return False
+        return all([are_same(part, other) for part, other in zip(thing, told)])
+    if isinstance(told, str):
+        return isinstance(thing, str) and thing == told
+    return is_whole(thing) and thing == told

@@ -1,5 +1,7 @@
 """Libraries that several tests take."""
 
+from latehall.texts import read
+
 SMALL = ("a", (), (), (), (), (), ())
 
 USES = (
@@ -67,3 +69,18 @@ def nested(depth):
     for at in range(depth):
         thing = [[thing], (thing,), {"a": thing}][at % 3]
     return thing
+
+
+def library_of(text):
+    """A library of a text whose lines are parted by |."""
+    return read("\n".join([line.strip() for line in text.split("|")]))
+
+
+def shelf_of(*texts):
+    """A shelf of libraries' texts whose lines are parted by |."""
+    return tuple([library_of(text) for text in texts])
+
+
+def needing(**needs):
+    """A shelf of libraries that need each other and have nothing else: b="a c"."""
+    return tuple([(name, tuple(words.split()), (), (), (), (), ()) for name, words in needs.items()])

@@ -1,0 +1,13 @@
+"""Holds: what a hall tells of an instance that is brought."""
+
+
+class Hold:
+    """A hold of an instance of a hall; made by the hall alone."""
+
+    def __init__(self, hall, number, name):
+        self.hall = hall
+        self.number = number
+        self.name = name
+
+    def __eq__(self, other):
+        return isinstance(other, Hold) and self.hall == other.hall and self.number == other.number

@@ -7,38 +7,52 @@ from latehall.walks import needs_of, walk_by
 
 def come_as_main(ground, main, ahead):
     """The main comes, with names put ahead of its needs; NoLibrary, Unmet."""
-    needs = needs_of(ground.shelf, main, ahead)
-    fresh = ground.settle(MAIN_SPACE, walk_by(main, needs), needs)
-    bind(ground, fresh, False)
+    fresh = settle_main(ground, main, ahead)
+    ground.lay(fresh, _bound_at_once(ground, fresh, False))
 
 
 def come(ground, space, name, *, shared, early):
     """A library is brought; told is its instance's number; NoLibrary, Unmet."""
-    needs = ground.needs_in(space)
-    fresh = ground.settle(space, walk_by(name, needs), needs)
+    fresh = settle_brought(ground, space, name, shared)
     number = ground.places[(space, name)]
-    ground.count_up(number, shared)
     try:
-        bind(ground, fresh, early)
+        bound = _bound_at_once(ground, fresh, early)
     except Unmet:
         # Only what comes anew is bound, so the opening is a new one, too.
         ground.count_down(number)
-        ground.take_away(fresh)
-        ground.next_number -= len(fresh)
+        ground.unsettle(fresh)
         raise
+    ground.lay(fresh, bound)
     return number
 
 
-def bind(ground, fresh, early):
-    """Binds those uses of new instances that are bound as they come; Unmet."""
+def settle_main(ground, main, ahead):
+    """The main stands, with nothing bound yet; told are the numbers of what came; NoLibrary."""
+    needs = needs_of(ground.shelf, main, ahead)
+    return ground.settle(MAIN_SPACE, walk_by(main, needs), needs)
+
+
+def settle_brought(ground, space, name, shared):
+    """What is brought stands and is counted, with nothing bound yet; told are
+    the numbers of the new instances; NoLibrary."""
+    needs = ground.needs_in(space)
+    fresh = ground.settle(space, walk_by(name, needs), needs)
+    ground.count_up(ground.places[(space, name)], shared)
+    return fresh
+
+
+def _bound_at_once(ground, fresh, early):
+    """(instance, use, meaning) for what new instances bind as they come; Unmet."""
+    bound = []
     for number in fresh:
-        instance = ground.instances[number]
-        name, uses, marks = instance.library[0], instance.library[3], instance.library[6]
-        is_early = early or ground.early or "early" in marks
+        library = ground.instances[number].library
+        is_early = early or ground.early or "early" in library[6]
         scope = ground.scope_of(number)
-        for at, use in enumerate(uses):
+        for at, use in enumerate(library[3]):
             if use[2] or is_early:
                 means = ground.meant(scope, use)
-                if means is None and use[3]:
-                    raise Unmet(name, use[0])
-                instance.bound[at] = means
+                if means is not None:
+                    bound.append((number, at, means))
+                elif use[3]:
+                    raise Unmet(library[0], use[0])
+    return bound

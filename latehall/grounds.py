@@ -11,24 +11,24 @@ MAIN_SPACE = 0
 
 
 class Instance:
-    """A library that came: its needs, what its uses are bound to, and its cells."""
+    """A library that came, in a space, with its needs."""
 
     def __init__(self, space, library, needs):
         self.space = space
         self.library = library
         # The main's needs have the names put ahead, so they aren't the library's always.
         self.needs = needs
-        self.bound = [None] * len(library[3])
-        self.cells = {number: give[4] for number, give in enumerate(library[2]) if is_whole(give[4])}
 
 
 class Ground:
-    """What stands, what is held and what goes, by the instances' numbers."""
+    """What stands, what is held and what goes, by the instances' numbers; a store
+    keeps what uses are bound to and what is in cells."""
 
-    def __init__(self, shelf, early, faint):
+    def __init__(self, shelf, early, faint, store):
         self.shelf = shelf
         self.early = early
         self.faint = faint
+        self.store = store
         self.instances = {}
         self.places = {}
         # What an instance needs stands as long as it does, so it is sought once, as it comes.
@@ -62,14 +62,21 @@ class Ground:
             self.leads[number] = [self.places[(space, need)] for need in self.instances[number].needs]
         return fresh
 
+    def unsettle(self, fresh):
+        """The last ones that were settled don't stand: as if they hadn't come."""
+        self._take_from_places(fresh)
+        self.next_number -= len(fresh)
+
+    def lay(self, fresh, bound):
+        """New instances get what is theirs in the store, with what is bound as they come."""
+        self.store.lay({number: self.instances[number].library for number in fresh}, bound)
+
     def take_away(self, numbers):
-        """Takes instances away, with all that is theirs."""
+        """Takes instances away that were begun, with all that is theirs."""
+        self.store.take_away(numbers)
+        self._take_from_places(numbers)
         for number in numbers:
-            instance = self.instances[number]
-            del self.places[(instance.space, instance.library[0])]
-            del self.instances[number]
-            del self.leads[number]
-            self.begun.pop(number, None)
+            del self.begun[number]
 
     def count_up(self, number, shared):
         """An instance's opening is brought once more."""
@@ -127,3 +134,14 @@ class Ground:
                 if give[0] == word and give[2]:
                     return (number, at)
         return None
+
+    def is_cell(self, number, give):
+        """Whether a give of an instance is a cell."""
+        return is_whole(self.instances[number].library[2][give][4])
+
+    def _take_from_places(self, numbers):
+        for number in numbers:
+            instance = self.instances[number]
+            del self.places[(instance.space, instance.library[0])]
+            del self.instances[number]
+            del self.leads[number]

@@ -24,50 +24,123 @@ class Runs:
             # In a first a bring may have begun what stands behind in this order.
             if other not in self.ground.begun:
                 self.ground.begun[other] = True
-                self._run(other, self.ground.instances[other].library[4])
+                self.run(other, self.first_of(other))
 
-    def end(self, numbers):
+    def finish(self, numbers):
         """Does the lasts of those that go, then they are gone."""
         self.ground.going = {number: True for number in numbers}
         for number in numbers:
-            self._run(number, self.ground.instances[number].library[5])
+            self.run(number, self.last_of(number))
         self.ground.take_away(numbers)
         self.ground.going = {}
 
     def call(self, means):
         """Does a deed, (instance, give), for a call from outside."""
         self.rows_left = MOST_ROWS
-        self._deed(means)
+        self.do_deed(means[0], self.deed_of(means))
 
-    def _run(self, number, rows):
+    def run(self, number, rows):
+        """Does rows of an instance as a run of their own."""
         outer = self.rows_left
         self.rows_left = MOST_ROWS
-        self._rows(number, rows)
+        self.do_rows(number, rows)
         self.rows_left = outer
 
-    def _deed(self, means):
+    def first_of(self, number):
+        """The rows that are done first."""
+        return self.ground.instances[number].library[4]
+
+    def last_of(self, number):
+        """The rows that are done last."""
+        return self.ground.instances[number].library[5]
+
+    def deed_of(self, means):
+        """The rows of a deed."""
         number, give = means
+        return self.ground.instances[number].library[2][give][4]
+
+    def do_deed(self, number, rows):
+        """Does rows of an instance as a deed; told is whether the run goes on behind it."""
         self.deeds_under_way += 1
-        goes_on = self._rows(number, self.ground.instances[number].library[2][give][4])
+        goes_on = self.do_rows(number, rows)
         self.deeds_under_way -= 1
         return goes_on
 
-    def _rows(self, number, rows):
+    def do_rows(self, number, rows):
         """Does rows of an instance; told is whether the run goes on behind them."""
         is_skipped = False
         for row in rows:
             if is_skipped:
                 is_skipped = False
-                continue
-            if self.rows_left == 0:
-                self._tell(number, "cut")
+            elif not self.goes_on(number):
                 return False
-            self.rows_left -= 1
-            if row[0] == "skip":
+            elif row[0] == "skip":
                 is_skipped = self._cell(number, row[1]) == 0
             elif not self._row(number, row):
                 return False
         return True
+
+    def goes_on(self, number):
+        """Whether the run goes on with one more row, of this instance."""
+        if self.rows_left == 0:
+            self.tell(number, "cut")
+            return False
+        self.rows_left -= 1
+        return True
+
+    def tell(self, number, what):
+        """A row of an instance tells."""
+        self.tellings.append((number, what))
+
+    def meant(self, number, use):
+        """What a deed's use means as it is called: bound from now on, where it isn't yet; or None."""
+        means = self.ground.store.bound_to(number, use)
+        if means is None:
+            instance = self.ground.instances[number]
+            means = self.ground.meant(self.ground.scope_of(number), instance.library[3][use])
+            if means is not None:
+                self.ground.store.bind(number, use, means)
+        return means
+
+    def ask(self, number, name, word):
+        """Does an ask row; told is whether the run goes on behind it."""
+        means = self.ground.asked(self.ground.instances[number].space, name, word)
+        if means is None:
+            self.tell(number, None)
+            return True
+        giver, give = means
+        if self.ground.is_cell(giver, give):
+            self.tell(number, self.ground.store.cell(giver, give))
+            return True
+        if self.deeds_under_way == MOST_DEEDS:
+            self.tell(number, None)
+            return True
+        return self.do_deed(giver, self.deed_of(means))
+
+    def bring(self, number, name, *, shared):
+        """Does a bring row, or a share row."""
+        brought = None
+        if not self.ground.going and self.deeds_under_way < MOST_DEEDS:
+            brought = self.brought(number, name, shared)
+        if brought is None:
+            self.tell(number, None)
+        else:
+            self.begin(brought)
+
+    def brought(self, number, name, shared):
+        """What comes by a row of an instance, not begun yet; None where it is refused."""
+        try:
+            return come(self.ground, self.ground.instances[number].space, name, shared=shared, early=False)
+        except (NoLibrary, Unmet):
+            return None
+
+    def drop(self, number, name):
+        """Does a drop row."""
+        held = self.ground.places.get((self.ground.instances[number].space, name))
+        if self.ground.going or held not in self.ground.openings:
+            self.tell(number, None)
+        else:
+            self.ground.count_down(held)
 
     def _row(self, number, row):
         """Does a row but a skip; told is whether the run goes on behind it."""
@@ -75,73 +148,32 @@ class Runs:
         if word == "call":
             return self._call(number, row[1])
         if word == "ask":
-            return self._ask(number, row[1], row[2])
+            return self.ask(number, row[1], row[2])
         if word == "tell":
-            self._tell(number, row[1])
+            self.tell(number, row[1])
         elif word == "show":
-            self._tell(number, self._cell(number, row[1]))
+            self.tell(number, self._cell(number, row[1]))
         elif word == "put":
             self._put(number, row[1], row[2])
         elif word == "add":
             self._put(number, row[1], self._cell(number, row[1]) + row[2])
         elif word == "drop":
-            self._drop(number, row[1])
+            self.drop(number, row[1])
         else:
-            self._bring(number, row[1], word == "share")
+            self.bring(number, row[1], shared=word == "share")
         return True
 
-    def _tell(self, number, what):
-        self.tellings.append((number, what))
-
     def _cell(self, number, use):
-        giver, give = self.ground.instances[number].bound[use]
-        return self.ground.instances[giver].cells[give]
+        giver, give = self.ground.store.bound_to(number, use)
+        return self.ground.store.cell(giver, give)
 
     def _put(self, number, use, worth):
-        giver, give = self.ground.instances[number].bound[use]
-        self.ground.instances[giver].cells[give] = worth
+        giver, give = self.ground.store.bound_to(number, use)
+        self.ground.store.put(giver, give, worth)
 
     def _call(self, number, use):
-        if self.deeds_under_way == MOST_DEEDS:
-            self._tell(number, None)
-            return True
-        instance = self.ground.instances[number]
-        if instance.bound[use] is None:
-            instance.bound[use] = self.ground.meant(self.ground.scope_of(number), instance.library[3][use])
-        if instance.bound[use] is None:
-            self._tell(number, None)
-            return True
-        return self._deed(instance.bound[use])
-
-    def _ask(self, number, name, word):
-        means = self.ground.asked(self.ground.instances[number].space, name, word)
+        means = self.meant(number, use) if self.deeds_under_way < MOST_DEEDS else None
         if means is None:
-            self._tell(number, None)
+            self.tell(number, None)
             return True
-        giver, give = means
-        cells = self.ground.instances[giver].cells
-        if give in cells:
-            self._tell(number, cells[give])
-            return True
-        if self.deeds_under_way == MOST_DEEDS:
-            self._tell(number, None)
-            return True
-        return self._deed(means)
-
-    def _bring(self, number, name, shared):
-        if self.ground.going or self.deeds_under_way == MOST_DEEDS:
-            self._tell(number, None)
-            return
-        try:
-            brought = come(self.ground, self.ground.instances[number].space, name, shared=shared, early=False)
-        except (NoLibrary, Unmet):
-            self._tell(number, None)
-            return
-        self.begin(brought)
-
-    def _drop(self, number, name):
-        held = self.ground.places.get((self.ground.instances[number].space, name))
-        if self.ground.going or held not in self.ground.openings:
-            self._tell(number, None)
-        else:
-            self.ground.count_down(held)
+        return self.do_deed(means[0], self.deed_of(means))

@@ -56,6 +56,9 @@ class Reader:
         self.begin(self.come(0, main, False, False, False))
         self.settle()
 
+    def note(self, *doing):
+        """What hangs on meanings is done; a test that asks for it has a reader of its own."""
+
     # What stands.
 
     def library(self, number):
@@ -215,6 +218,7 @@ class Reader:
                 return say(None)
             found = self.bound.get((number, parts[0]))
             found = found or self.meant(self.scope(number), self.library(number)[3][parts[0]])
+            self.note("use", number, parts[0], found)
             if found is None:
                 return say(None)
             self.bound[number, parts[0]] = found
@@ -232,7 +236,9 @@ class Reader:
             try:
                 brought = self.come(space, parts[0], True, word == "share", False)
             except No:
+                self.note("row", number, parts[0], False)
                 return say(None)
+            self.note("row", number, parts[0], True)
             self.begin(brought)
 
     def ask(self, number, asked, word, say):
@@ -328,6 +334,7 @@ class Reader:
             kept = kept + more
             more = sorted({other for one, other in net[2] if one in kept and other not in kept})
         self.going = [one for one in reversed(self.begun) if one not in kept]
+        self.note("gone", *sorted(self.going))
         self.lasting = True
         for one in self.going:
             self.run(one, self.library(one)[5])

@@ -77,3 +77,32 @@ def call_by_chance(chance, many):
     if word == "look":
         further["cell"] = chance.random() < 0.5
     return (word, (number, chance.choice(WORDS)), further)
+
+
+def history_call_by_chance(chance, many):
+    """A call of a history, as point 25 writes it; instances' numbers below many, for the most part."""
+    word, told, more = call_by_chance(chance, many)
+    if word == "bring":
+        return (word, *told, more["shared"], more["early"], more["apart"])
+    if word == "look":
+        return (word, *told, more["version"], more["cell"])
+    if word in ("call", "show"):
+        return (word, *told, more["version"])
+    return (word, *told)
+
+
+def history_by_chance(chance, most=30):
+    """Calls, some of them behind an end."""
+    calls = [history_call_by_chance(chance, chance.choice([3, 8, 20])) for _ in range(chance.randint(0, most))]
+    if chance.random() < 0.4:
+        calls.append(("end",))
+        calls += [chance.choice([("end",), history_call_by_chance(chance, 6)]) for _ in range(chance.randint(0, 3))]
+    return calls
+
+
+def making_by_chance(chance):
+    """A shelf, a main of it or none, and what else a hall is made with but early."""
+    shelf = shelf_by_chance(chance, chance.choice([0, 0.3]), chance.choice([2, 4, 8]))
+    main = chance.choice(NAMES)
+    ahead = some(chance, [name for name in NAMES if name != main], 2)
+    return shelf, main, {"ahead": ahead, "faint": chance.random() < 0.5}

@@ -36,6 +36,10 @@ INTERFACE = {
     "plain": ["read", "read_on", "state_behind"],
     "late": ["parted"],
     "images": ["name_number", "name_of", "image", "begins", "filled", "wrong_place"],
+    "rooms": ["Room"],
+    "plants": ["Plant"],
+    "reckoned": ["reckoned", "wrong_row", "conflicts", "mended"],
+    "desk": ["Desk"],
 }
 
 # What the interface's functions and methods are handed; behind a star by its name alone.
@@ -92,6 +96,31 @@ HANDED = {
     "images.begins": "(library)",
     "images.filled": "(image, base, addresses)",
     "images.wrong_place": "(library, base, thing)",
+    "rooms.Room": "()",
+    "rooms.Room.take": "(self, length)",
+    "rooms.Room.give_back": "(self, at)",
+    "rooms.Room.taken": "(self)",
+    "rooms.Room.height": "(self)",
+    "plants.Plant": "(shelf, main, *, ahead=(), early=False, faint=False, pad=0)",
+    "plants.Plant.bring": "(self, name, *, shared=False, early=False, apart=False)",
+    "plants.Plant.drop": "(self, hold)",
+    "plants.Plant.hold": "(self, number)",
+    "plants.Plant.look": "(self, hold, word, *, version='', cell=False)",
+    "plants.Plant.call": "(self, hold, word, *, version='')",
+    "plants.Plant.show": "(self, hold, word, *, version='')",
+    "plants.Plant.shelve": "(self, library)",
+    "plants.Plant.end": "(self)",
+    "plants.Plant.told": "(self)",
+    "plants.Plant.__len__": "(self)",
+    "plants.Plant.state": "(self)",
+    "plants.Plant.images": "(self)",
+    "plants.Plant.number_at": "(self, address)",
+    "reckoned.reckoned": "(shelf, main, *, loads=(), faint=False)",
+    "reckoned.wrong_row": "(shelf, main, rows, *, loads=(), faint=False)",
+    "reckoned.conflicts": "(rows, other)",
+    "reckoned.mended": "(rows, told, order)",
+    "desk.Desk": "()",
+    "desk.Desk.say": "(self, row)",
 }
 
 

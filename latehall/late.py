@@ -15,6 +15,12 @@ class WatchedRuns(Runs):
         super().__init__(ground)
         self.doings = []
 
+    def new_doings(self):
+        """What was done since it was asked last."""
+        doings = self.doings
+        self.doings = []
+        return doings
+
     def finish(self, numbers):
         """Does the lasts of those that go, then they are gone."""
         self.doings.append(("gone", tuple(sorted(numbers))))
@@ -43,13 +49,11 @@ def parted(shelf, main, calls, *, ahead=(), faint=False):
         if other != told and other[:2] == ("no", "Unmet"):
             return ("unmet", k, *other[2])
         # Up to a parting both do the same, so their doings stand side by side.
-        for doing, otherwise in zip(late.runs.doings, early.runs.doings):
+        for doing, otherwise in zip(late.runs.new_doings(), early.runs.new_doings()):
             if doing != otherwise:
                 return _parting(k, doing, otherwise)
         if is_refused(told) and call[0] == MAKING:
             return None
-        late.runs.doings = []
-        early.runs.doings = []
     return None
 
 
